@@ -103,6 +103,42 @@ def plain_thinned(found):
                               for other in found)})
 
 
+def plain_covers(one, other):
+    return one[:3] == other[:3] and one[3] >= other[3] and one[4] >= other[4]
+
+
+def plain_bars(sky, hour, state, many, x, y, rows):
+    """Whether the lists are a paper that bars the place, walked order by order as [15] tells."""
+    if len(rows) != many + 1:
+        return False
+    if any(other[:2] == (x, y) for found in rows for other in found):
+        return False
+    if not any(plain_covers(other, state) for other in rows[0]):
+        return False
+    for at, found in enumerate(rows[:-1]):
+        for before in found:
+            for order in ORDERS:
+                why, after = plain_step(sky, hour + at, before, order)
+                if why is None and not any(plain_covers(other, after) for other in rows[at + 1]):
+                    return False
+    return True
+
+
+def plain_fits(sightings, hour, state):
+    return all(plain_holds(sighting[1:7], *state[:3]) == sighting[7]
+               for sighting in sightings if sighting[0] == hour)
+
+
+def plain_possible(sky, hour, state, until, sightings):
+    """What is possible, by trying all rows: a list of lists, or the hour of the refusal."""
+    for length in range(until - hour + 1):
+        left = [stood for row, stood in all_flights(sky, hour, state, length)
+                if all(plain_fits(sightings, hour + at, other) for at, other in enumerate(stood))]
+        if not left:
+            return hour + length
+    return [sorted({stood[at] for stood in left}) for at in range(until - hour + 1)]
+
+
 def copied(sky):
     return tuple(list(part) for part in sky)
 
@@ -135,10 +171,11 @@ def some_state(chance, most=6):
 
 # Hills, cool hours, winds and shuttings that bar some orders around (0, 0), and not others.
 BARRED_SKY = (
-    [(1, 0, 2), (2, 0, 1), (2, 0, 4), (0, 1, 5)],
+    [(1, 0, 2), (2, 0, 1), (2, 0, 4), (0, 2, 5), (-1, 1, 1)],
     [2, 5],
-    [(0, 0, 0, 1), (0, 1, 1, 0), (0, 2, 1, 0), (3, 2, 0, -1), (1, 3, -1, 0), (4, 3, 1, 1)],
-    [(-1, -1, 1, 1, 4, 5, 1, 3), (2, -2, 4, 2, 0, 1, 4, 6)],
+    [(0, 0, 0, 1), (1, 0, -1, 0), (0, 1, 1, 0), (2, 1, 1, 1), (0, 2, 1, 0), (3, 2, 0, -1),
+     (1, 3, -1, 0), (4, 3, 1, 1), (0, 5, 0, 1), (2, 5, 2, -1)],
+    [(-1, -1, 1, 1, 4, 4, 1, 2), (2, -2, 4, 2, 0, 1, 4, 6)],
 )
 
 # A hill as high as can be where the only wind leads to: from (0, 0) nothing can be flown.

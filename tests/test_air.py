@@ -114,6 +114,9 @@ class Closures(unittest.TestCase):
         self.assertEqual(self.told((0, 11), (12, 24)), [(0, 24)])
         self.assertEqual(self.told(*[(hour, hour) for hour in range(25)]), [(0, 24)])
 
+    def test_no_hour_beyond_the_day(self):
+        self.assertEqual(self.told((20, 26)), [(20, 24)])
+
     def test_stretches_that_touch_are_one(self):
         self.assertEqual(self.told((3, 5), (6, 9)), [(3, 9)])
         self.assertEqual(self.told((6, 9), (3, 5)), [(3, 9)])
