@@ -26,12 +26,25 @@ METHODS = set(
     """append clear copy count endswith extend find get index insert isalnum isalpha isdigit
     islower isspace isupper items join keys ljust lower lstrip partition pop remove replace
     reverse rfind rjust rpartition rsplit rstrip setdefault split splitlines startswith strip
-    update upper values zfill bit_length add discard sort""".split())
+    update upper values zfill bit_length add discard sort removeprefix isascii""".split())
 DOUBLE = {"__init__", "__eq__", "__repr__", "__str__", "__len__"}
 
 
 def nodes(path):
     return list(ast.walk(ast.parse(path.read_text(encoding="ascii"))))
+
+
+def classes(found):
+    return [node for node in found if isinstance(node, ast.ClassDef)]
+
+
+def methods(node):
+    return [part.name for part in node.body if isinstance(part, ast.FunctionDef)]
+
+
+def assigned_attributes(found):
+    return {node.attr for node in found
+            if isinstance(node, ast.Attribute) and isinstance(node.ctx, ast.Store)}
 
 
 def stored_names(node):
@@ -101,6 +114,41 @@ class Rules(unittest.TestCase):
                     clash = {name for name in stored_names(node)
                              if name in taken or hasattr(builtins, name)}
                     self.assertEqual(clash, set(), (path.name, node.name))
+
+    def test_l18_methods_and_attributes(self):
+        found = [node for path in FILES for node in nodes(path)]
+        attributes = assigned_attributes(found)
+        named = [name for node in classes(found) for name in methods(node)]
+        self.assertEqual(attributes & set(named), set())
+        for node in classes(found):
+            self.assertEqual(len(methods(node)), len(set(methods(node))), node.name)
+        called = {id(node.func) for node in found if isinstance(node, ast.Call)}
+        for node in found:
+            if isinstance(node, ast.Attribute) and id(node) not in called:
+                self.assertIn(node.attr, attributes)
+
+    def test_l19_handlers(self):
+        own = {node.name for path in FILES for node in classes(nodes(path))}
+        for path in FILES:
+            for node in nodes(path):
+                if isinstance(node, ast.ExceptHandler):
+                    self.assertIn(node.type.id, own, path.name)
+                if isinstance(node, ast.Raise):
+                    self.assertIn(node.exc.func.id, own, path.name)
+
+    def test_l26_own_names(self):
+        found = [node for path in FILES for node in nodes(path)]
+        named = {name for node in classes(found) for name in methods(node)} - DOUBLE
+        taken = {name for value in ("", 0, [], {}, set(), b"") for name in dir(value)}
+        self.assertEqual((named | assigned_attributes(found)) & taken, set())
+
+    def test_l27_strings(self):
+        for path in FILES:
+            for node in nodes(path):
+                if isinstance(node, ast.Constant) and isinstance(node.value, str):
+                    self.assertNotIn("%", node.value, path.name)
+            text = path.read_text(encoding="ascii")
+            self.assertEqual(re.findall(r"\\[^nt\\'\"]", text), [], path.name)
 
     def test_l20_is(self):
         for path in FILES:
